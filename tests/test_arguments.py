@@ -1,0 +1,188 @@
+"""Point 1: which error is raised, whatever is passed, and that no argument is modified."""
+
+import copy
+import unittest
+
+from plain import ANT, FAR, PAINTER, STRAIGHT
+from streetpapers import backs, corners, errors, finders, floors, papers, tables, walks
+
+JUNK = (
+    0, 1, -1, 3, 4, 5, 2000, 2001, 30000, 30001, 100000, 100001, FAR, FAR + 1, -FAR - 1, 10 ** 5000, -10 ** 5000,
+    "", "a", "stops", "1r0 0l0", "x", True, False, None, (), [], {}, (1, 2), (1, True), (True, False), (False, 0),
+    (FAR, -FAR), (FAR + 1, 0), (0, -FAR - 1), [0, 0], (0, 0, 1), ((0, 0, 1),), [(0, 0, 1)], ((0, 0, True),),
+    ((0, 0, 0),), ((0, 0, 2),), ((0, 0, 6),), ([0, 0, 1],), ((0, 0, 1), (0, 0, 1)), ((1, 0, 1), (0, 0, 1)),
+    ((True, 0, 1),), ((0, 0),), ((FAR + 1, 0, 1),), (None,), ((None,),), {(0, 0): 1}, {"a": [1, {}]},
+    (0, 0, 0, 0), [0, 0, 0, 0], (0, 0, 4, 0), (0, 0, -1, 0), (0, 0, 0, 1), (0, 0, 0, -1), (0, 0, True, 0),
+    (0, 0, 0, False), (0, 0, 0), (0, 0, 0, 0, 0), ("0", 0, 0, 0), (FAR + 1, 0, 0, 0), ((0, 0), 0, 0),
+    ("stops", 0), ("stops", True), ("stops", -1), ("stops", 100001), ("stops",), ("stops", 1, 1), ["stops", 0],
+    ("round", 0, 8), ("round", 0), ("round", 0, 0), ("round", 0, 2001), ("street", 0, 1), ("street", 100001, 1),
+    ("street", 0, True), ("street", None, 1), ("walks", 0, 1), (["street"], 0, 1), ("street", 0, 1, 1),
+    (((1, 1, 0), (0, 3, 0)),), [((1, 1, 0), (0, 3, 0))], (((1, 1, 0),),), ((None, None),), ((None,),),
+    (((1, 1, 0), (2, 3, 0)),), (((1, 4, 0), (0, 3, 0)),), (((1, 1, 1), (0, 3, 0)),), (((1, True, 0), None),),
+    (((1, 1), None),), (([1, 1, 0], None),), ([None, None],), ((None, None), (None, None, None)),
+    ((None,) * 7,), ((None, None),) * 11, ((None, None),) * 10,
+)
+
+
+def is_street(value):
+    return type(value) is tuple and value == ("street", 0, 1) and bool not in map(type, value)
+
+
+def whole(value, least, greatest):
+    return type(value) is int and least <= value <= greatest
+
+
+def place(value):
+    return type(value) is tuple and len(value) == 2 and all(whole(part, -FAR, FAR) for part in value)
+
+
+def table(value):
+    if type(value) is not tuple or not 1 <= len(value) <= 10:
+        return False
+    if any(type(state) is not tuple or not 2 <= len(state) <= 6 for state in value):
+        return False
+    if len({len(state) for state in value}) != 1:
+        return False
+    for entry in [entry for state in value for entry in state]:
+        if entry is not None:
+            if type(entry) is not tuple or len(entry) != 3:
+                return False
+            limits = (len(value[0]) - 1, 3, len(value) - 1)
+            if not all(whole(part, 0, limit) for part, limit in zip(entry, limits)):
+                return False
+    return True
+
+
+def floor(colours):
+    def allowed(value):
+        if type(value) is not tuple or len(value) > 4000:
+            return False
+        for square in value:
+            if type(square) is not tuple or len(square) != 3:
+                return False
+            if not place(square[:2]) or not whole(square[2], 1, colours - 1):
+                return False
+        places = [square[:2] for square in value]
+        return places == sorted(places) and len(set(places)) == len(places)
+    return allowed
+
+
+def walker(value):
+    return (type(value) is tuple and len(value) == 4 and place(value[:2]) and whole(value[2], 0, 3)
+            and whole(value[3], 0, 0))
+
+
+def number(least, greatest):
+    return (lambda value: whole(value, least, greatest), errors.BadNumber)
+
+
+TABLE = (table, errors.BadTable)
+FLOOR = (floor(2), errors.BadFloor)
+ANY_FLOOR = (floor(6), errors.BadFloor)
+WALKER = (walker, errors.BadWalker)
+PLACE = (place, errors.BadPlace)
+# On a blank floor STRAIGHT goes straight on: its papers are these streets.
+PAPER = (is_street, errors.BadPaper)
+TEXT = (lambda value: type(value) is str, errors.NotText)
+STAND = [(STRAIGHT, TABLE), ((), FLOOR), ((0, 0, 1, 0), WALKER)]
+STREET = [*STAND, (("street", 0, 1), PAPER)]
+MANY = (3, number(0, 100000))
+STEP = (FAR, number(0, FAR))
+
+# Each function with, for each argument, a good value, what else is allowed for it, and its error.
+FUNCTIONS = [
+    (tables.write_table, [(ANT, TABLE)]),
+    (tables.read_table, [("1r0 0l0", TEXT)]),
+    (floors.moved, [(((0, 0, 5),), ANY_FLOOR), ((1, 2), PLACE)]),
+    (floors.turned, [(((0, 0, 5),), ANY_FLOOR), (1, number(0, 3))]),
+    (floors.box, [(((0, 0, 5),), ANY_FLOOR)]),
+    (floors.write_floor, [(((0, 0, 5),), ANY_FLOOR)]),
+    (floors.read_floor, [("a", TEXT)]),
+    (walks.step, STAND),
+    (walks.walk, [*STAND, MANY]),
+    (backs.can_be_undone, [(ANT, TABLE)]),
+    (backs.back, [(ANT, TABLE), ((), FLOOR), ((0, 0, 0, 0), WALKER), (0, number(0, 100000))]),
+    (papers.shows_paper, [*STAND, (("street", 0, 1), (lambda value: True, None))]),
+    (papers.walker_at, [*STREET, STEP]),
+    (papers.painted_at, [*STREET, STEP]),
+    (papers.colour_at, [*STREET, STEP, ((0, 0), PLACE)]),
+    (papers.move_of, STREET),
+    (finders.find_paper, [*STAND, (9, number(1, 30000)), (3, number(1, 2000))]),
+    (finders.soonest, STREET),
+    (corners.colour_rounds, [(ANT, TABLE)]),
+    (corners.never_bounded, [(ANT, TABLE)]),
+    (corners.bound_stand, [(ANT, TABLE)]),
+]
+
+
+class ArgumentsTest(unittest.TestCase):
+    def refused(self, function, values, error):
+        """Whether the call raises just this error and leaves its arguments alone."""
+        before = copy.deepcopy(values)
+        with self.assertRaises(errors.WalkError) as caught:
+            function(*values)
+        self.assertIs(type(caught.exception), error, (function.__name__, values))
+        self.assertEqual(values, before)
+
+    def test_good_values_are_taken(self):
+        for function, wanted in FUNCTIONS:
+            values = [good for good, _ in wanted]
+            before = copy.deepcopy(values)
+            function(*values)
+            self.assertEqual(values, before)
+
+    def test_each_wrong_value_has_its_error(self):
+        for function, wanted in FUNCTIONS:
+            for at, (_, (allowed, error)) in enumerate(wanted):
+                for value in JUNK:
+                    if not allowed(value):
+                        values = [good for good, _ in wanted]
+                        values[at] = value
+                        self.refused(function, values, error)
+
+    def test_the_leftmost_wrong_argument_counts(self):
+        for function, wanted in FUNCTIONS:
+            for at, (_, (allowed, error)) in enumerate(wanted):
+                for value in JUNK[::3]:
+                    if not allowed(value):
+                        for later in (None, True, [], "x", -1):
+                            values = [good for good, _ in wanted[:at]] + [value] + [later] * (len(wanted) - at - 1)
+                            self.refused(function, values, error)
+
+    def test_any_value_may_be_asked_for_as_a_paper(self):
+        for value in JUNK:
+            answer = papers.shows_paper(STRAIGHT, (), (0, 0, 1, 0), value)
+            self.assertIs(answer, is_street(value), value)
+
+    def test_too_many_comes_behind_the_errors_of_all_arguments(self):
+        stand = (PAINTER, (), (0, 0, 1, 0))
+        street = ("street", 4000, 1)
+        self.refused(walks.walk, [*stand, 100001], errors.BadNumber)
+        self.refused(walks.walk, [*stand, 100000], errors.TooMany)
+        self.refused(papers.walker_at, [*stand, street, FAR + 1], errors.BadNumber)
+        self.refused(papers.painted_at, [*stand, street, True], errors.BadNumber)
+        self.refused(papers.colour_at, [*stand, street, -1, None], errors.BadNumber)
+        self.refused(papers.colour_at, [*stand, street, 0, (0, FAR + 1)], errors.BadPlace)
+        self.refused(papers.colour_at, [*stand, street, 0, (0, 0)], errors.TooMany)
+        self.refused(papers.move_of, [*stand, street], errors.TooMany)
+        self.refused(papers.shows_paper, [*stand, street], errors.TooMany)
+        self.refused(finders.soonest, [*stand, street], errors.TooMany)
+        self.refused(finders.find_paper, [*stand, 4001, 0], errors.BadNumber)
+        self.refused(finders.find_paper, [*stand, 4001, 1], errors.TooMany)
+
+    def test_a_paper_that_is_not_right_comes_ahead_of_the_step_and_the_place(self):
+        stand = (STRAIGHT, (), (0, 0, 1, 0))
+        for paper in (("round", 0, 1), ("stops", 3), ("street", 0, 0), None):
+            self.refused(papers.walker_at, [*stand, paper, -1], errors.BadPaper)
+            self.refused(papers.painted_at, [*stand, paper, None], errors.BadPaper)
+            self.refused(papers.colour_at, [*stand, paper, FAR + 1, ()], errors.BadPaper)
+            self.refused(papers.colour_at, [*stand, paper, 0, (0, True)], errors.BadPaper)
+
+    def test_what_a_table_allows_limits_floor_and_walker(self):
+        self.refused(walks.walk, [ANT, ((0, 0, 2),), (0, 0, 0, 1), -1], errors.BadFloor)
+        self.refused(walks.walk, [ANT, ((0, 0, 1),), (0, 0, 0, 1), -1], errors.BadWalker)
+        self.refused(walks.walk, [ANT, ((0, 0, 1),), (0, 0, 0, 0), -1], errors.BadNumber)
+
+
+if __name__ == "__main__":
+    unittest.main()

@@ -1,0 +1,62 @@
+"""The examples of the interface, exactly as written."""
+
+import doctest
+import unittest
+
+EXAMPLES = {
+    "tables": '''
+>>> from streetpapers.tables import read_table, write_table
+>>> [read_table("1r0 0l0"), write_table((((0, 2, 1), None), ((1, 0, 0), (1, 1, 1))))]
+[(((1, 1, 0), (0, 3, 0)),), '0b1 - / 1a0 1r1']
+''',
+    "floors": '''
+>>> from streetpapers.floors import box, read_floor, turned, write_floor
+>>> floor = read_floor(".2a//b")
+>>> [floor, turned(floor, 1), box(floor), write_floor(((5, 5, 1), (6, 5, 1)))]
+[((0, 2, 2), (1, 0, 1), (2, 0, 1)), ((-2, 0, 2), (0, 1, 1), (0, 2, 1)), (0, 0, 2, 2), ('2a', (5, 5))]
+''',
+    "walks": '''
+>>> from streetpapers.walks import step, walk
+>>> table = (((1, 1, 0), (0, 3, 0)),)
+>>> [step(table, (), (0, 0, 0, 0)), walk(table, (), (0, 0, 0, 0), 5)]
+[(((0, 0, 1),), (1, 0, 1, 0)), (((0, 1, 1), (1, 0, 1), (1, 1, 1)), (-1, 0, 3, 0), 5)]
+''',
+    "backs": '''
+>>> from streetpapers.backs import back, can_be_undone
+>>> table = (((1, 1, 0), (0, 3, 0)),)
+>>> [can_be_undone(table), back(table, ((0, 0, 1),), (1, 0, 1, 0), 1), can_be_undone((((1, 1, 0), (1, 3, 0)),))]
+[True, ((), (0, 0, 0, 0)), False]
+''',
+    "papers": '''
+>>> from streetpapers.papers import move_of, shows_paper
+>>> table, walker = (((1, 1, 0), (2, 1, 0), (0, 3, 0)),), (0, 0, 0, 0)
+>>> paper = ("street", 39, 18)
+>>> [shows_paper(table, (), walker, paper), shows_paper(table, (), walker, ("street", 38, 18)), move_of(table, (), walker, paper)]
+[True, False, (1, 1)]
+''',
+    "finders": '''
+>>> from streetpapers.finders import find_paper, soonest
+>>> [soonest((((1, 1, 0), (2, 1, 0), (0, 3, 0)),), (), (0, 0, 0, 0), ("street", 100, 18)), find_paper(((None, (0, 0, 0)),), ((0, 0, 1),), (0, 0, 1, 0), 50, 5)]
+[('street', 39, 18), ('stops', 1)]
+''',
+    "corners": '''
+>>> from streetpapers.corners import bound_stand, colour_rounds, never_bounded
+>>> table = (((1, 1, 0), (0, 3, 0), (2, 1, 0)),)
+>>> [colour_rounds(table), never_bounded(table), bound_stand(table)]
+[((0, 1), (2,)), False, (((0, 0, 2), (0, 1, 2), (1, 0, 2), (1, 1, 2)), (0, 0, 0, 0))]
+''',
+}
+
+
+class ExamplesTest(unittest.TestCase):
+    def test_each_example(self):
+        for name in EXAMPLES:
+            with self.subTest(name):
+                example = doctest.DocTestParser().get_doctest(EXAMPLES[name], {}, name, None, 0)
+                told = []
+                result = doctest.DocTestRunner(verbose=False).run(example, out=told.append)
+                self.assertEqual((result.failed, result.attempted > 1), (0, True), "".join(told))
+
+
+if __name__ == "__main__":
+    unittest.main()
