@@ -10,6 +10,11 @@ MOST_WALKED = 30000
 def find_paper(table, floor, walker, steps, most):
     """Return a right paper that so many steps show, a street's period being at most most, or None."""
     check_stand(table, floor, walker)
+    return found_paper(table, floor, walker, steps, most)
+
+
+def found_paper(table, floor, walker, steps, most):
+    """Return what find_paper does, also for a floor and a walker that lie beyond all places."""
     check_number(steps, 1, MOST_WALKED)
     check_number(most, 1, LONGEST_PERIOD)
     stroll = Stroll(table, floor, walker)

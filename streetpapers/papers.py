@@ -2,7 +2,7 @@
 
 from streetpapers.checks import FAR, check_number, check_place, is_whole
 from streetpapers.errors import BadPaper, TooMany
-from streetpapers.floors import painted_places
+from streetpapers.floors import MOST_SQUARES, painted_places
 from streetpapers.walks import MOST_STEPS, Stroll, check_stand
 
 LONGEST_PERIOD = 2000
@@ -49,19 +49,27 @@ def right_course(table, floor, walker, paper, step, place):
     A function that takes no step or no place passes any right one.
     """
     check_stand(table, floor, walker)
+    course = judged_course(table, floor, walker, paper)
+    check_number(step, 0, FAR)
+    check_place(place)
+    if course is None:
+        raise TooMany(MOST_SQUARES)
+    return course
+
+
+def judged_course(table, floor, walker, paper):
+    """Return the course that a paper tells, or raise BadPaper if it is not right.
+
+    It is None where the walk would paint too many squares: that is to be raised behind all other errors.
+    """
     if not is_paper(paper):
         raise BadPaper("the value is no paper")
     try:
         course = Course(table, floor, walker, paper)
     except TooMany:
-        # Errors of the arguments to the paper's right come ahead of TooMany, though not of BadPaper.
-        check_number(step, 0, FAR)
-        check_place(place)
-        raise
+        return None
     if not course.holds():
         raise BadPaper("the paper is not right")
-    check_number(step, 0, FAR)
-    check_place(place)
     return course
 
 
@@ -96,6 +104,10 @@ class Course:
         if self.move == (0, 0) or self.end[2:] != self.start[2:]:
             return False
         return _repeats_for_ever(self.ahead, self.loop, self.move)
+
+    def lasts(self, step):
+        """Tell whether there are so many steps."""
+        return self.kind != "stops" or step <= self.first
 
     def near(self, step):
         """Return the step near by that is as this one, and how many rounds lie between them."""

@@ -32,8 +32,20 @@ def check_stand(table, floor, walker):
     """Raise the first error of a table, a floor and a walker that are to make a walk."""
     check_table(table)
     check_floor(floor, len(table[0]))
-    if not _is_walker(walker, len(table)):
+    check_walker(walker, len(table))
+
+
+def check_walker(value, states):
+    """Raise BadWalker for no walker of a table of so many states."""
+    if not is_walker(value, states):
         raise BadWalker("a walker is (x, y, heading, state)")
+
+
+def is_walker(value, states):
+    """Tell whether a value is a walker of a table of so many states."""
+    if not isinstance(value, tuple) or len(value) != 4:
+        return False
+    return is_place(value[:2]) and is_whole(value[2], 0, 3) and is_whole(value[3], 0, states - 1)
 
 
 class Stroll:
@@ -44,10 +56,14 @@ class Stroll:
         self.painted = painted_places(floor)
         self.walker = walker
 
+    def reading(self):
+        """Return the state and the colour by which the walker goes on, or has stopped."""
+        return (self.walker[3], self.painted.get(self.walker[:2], 0))
+
     def has_stopped(self):
         """Tell whether no step is left to do."""
-        colour = self.painted.get(self.walker[:2], 0)
-        return self.table[self.walker[3]][colour] is None
+        state, colour = self.reading()
+        return self.table[state][colour] is None
 
     def go(self, many):
         """Do many steps, or those that there are, and return what each did.
@@ -65,12 +81,6 @@ class Stroll:
             told.append((self.walker, colour, entry[0]))
             self.walker = _walker_behind(self.walker, entry)
         return told
-
-
-def _is_walker(value, states):
-    if not isinstance(value, tuple) or len(value) != 4:
-        return False
-    return is_place(value[:2]) and is_whole(value[2], 0, 3) and is_whole(value[3], 0, states - 1)
 
 
 def _walker_behind(walker, entry):

@@ -4,7 +4,8 @@ import copy
 import unittest
 
 from plain import ANT, FAR, PAINTER, STRAIGHT
-from streetpapers import backs, corners, errors, finders, floors, papers, tables, walks
+from streetpapers import (backs, census, corners, desk, errors, finders, floors, kin, notes, papers, rings, sessions,
+                          tables, teams, trails, walks)
 
 JUNK = (
     0, 1, -1, 3, 4, 5, 2000, 2001, 30000, 30001, 100000, 100001, FAR, FAR + 1, -FAR - 1, 10 ** 5000, -10 ** 5000,
@@ -21,6 +22,9 @@ JUNK = (
     (((1, 1, 0), (2, 3, 0)),), (((1, 4, 0), (0, 3, 0)),), (((1, 1, 1), (0, 3, 0)),), (((1, True, 0), None),),
     (((1, 1), None),), (([1, 1, 0], None),), ([None, None],), ((None, None), (None, None, None)),
     ((None,) * 7,), ((None, None),) * 11, ((None, None),) * 10,
+    ((0, 0, 0, 0),), ((0, 0, 0, 0),) * 4, ((0, 0, 0, 0),) * 5, [(0, 0, 0, 0)], ((0, 0, 0, 0), (0, 0, 0, 1)),
+    ((0, 0, 0, 0), None), ((0, 0, True, 0),), (("street", 0, 1),), (("street", 0, 1),) * 2, [("street", 0, 1)],
+    (("street", 0, 1), ("round", 0, 1)), (("stops", 0),), ("steps",) * 1001, ("steps",), (0, 0, 0, 9), (0, 0, 0, 10),
 )
 
 
@@ -72,6 +76,26 @@ def walker(value):
             and whole(value[3], 0, 0))
 
 
+def of_any_table(value):
+    return walker(value) or (type(value) is tuple and len(value) == 4 and walker((*value[:3], 0))
+                             and whole(value[3], 0, 9))
+
+
+def team(value):
+    return type(value) is tuple and 1 <= len(value) <= 4 and all(walker(one) for one in value)
+
+
+def papers_of_one(value):
+    return type(value) is tuple and len(value) == 1 and is_street(value[0])
+
+
+def any_paper(value):
+    if type(value) is not tuple or len(value) not in (2, 3) or not whole(value[1], 0, 100000):
+        return False
+    kinds = ("stops",) if len(value) == 2 else ("round", "street")
+    return type(value[0]) is str and value[0] in kinds and (len(value) == 2 or whole(value[2], 1, 2000))
+
+
 def number(least, greatest):
     return (lambda value: whole(value, least, greatest), errors.BadNumber)
 
@@ -87,6 +111,10 @@ TEXT = (lambda value: type(value) is str, errors.NotText)
 STAND = [(STRAIGHT, TABLE), ((), FLOOR), ((0, 0, 1, 0), WALKER)]
 STREET = [*STAND, (("street", 0, 1), PAPER)]
 MANY = (3, number(0, 100000))
+TEAM = [*STAND[:2], (((0, 0, 1, 0),), (team, errors.BadWalker))]
+TEAM_PAPERS = [*TEAM, ((("street", 0, 1),), (papers_of_one, errors.BadPaper))]
+SIDE = (5, number(1, 40))
+COLOURS = (2, number(2, 4))
 STEP = (FAR, number(0, FAR))
 
 # Each function with, for each argument, a good value, what else is allowed for it, and its error.
@@ -112,6 +140,28 @@ FUNCTIONS = [
     (corners.colour_rounds, [(ANT, TABLE)]),
     (corners.never_bounded, [(ANT, TABLE)]),
     (corners.bound_stand, [(ANT, TABLE)]),
+    (kin.asked, [*STAND, MANY]),
+    (kin.walks_alike, [*STAND, MANY, (ANT, TABLE)]),
+    (kin.kin_count, [*STAND, MANY]),
+    (rings.ring_walk, [*STAND, SIDE, SIDE, MANY]),
+    (rings.ring_life, [*STAND, SIDE, SIDE]),
+    (teams.team_walk, [*TEAM, MANY]),
+    (teams.never_cross, TEAM_PAPERS),
+    (teams.team_at, [*TEAM_PAPERS, STEP]),
+    (teams.team_painted_at, [*TEAM_PAPERS, STEP]),
+    (teams.team_colour_at, [*TEAM_PAPERS, STEP, ((0, 0), PLACE)]),
+    (census.census, [COLOURS, (9, number(1, 4000)), (3, number(1, 200))]),
+    (census.count_never_bounded, [COLOURS]),
+    (notes.write_paper, [(("stops", 5), (any_paper, errors.BadPaper))]),
+    (notes.write_walker, [((0, 0, 0, 9), (of_any_table, errors.BadWalker))]),
+    (notes.read_paper, [("stops 5", TEXT)]),
+    (notes.read_walker, [("0 0 0 0", TEXT)]),
+    (trails.Trail, STAND),
+    (trails.read_trail, [(ANT, TABLE), ("5 0 0 0 0 0 0 ", TEXT)]),
+    (sessions.Session, [(ANT, TABLE)]),
+    (desk.Desk, [(ANT, TABLE)]),
+    (desk.run, [("1r0 0l0", TEXT), (("steps",), (lambda value: type(value) is tuple and len(value) <= 1000,
+                                                  errors.NotText))]),
 ]
 
 

@@ -45,6 +45,57 @@ EXAMPLES = {
 >>> [colour_rounds(table), never_bounded(table), bound_stand(table)]
 [((0, 1), (2,)), False, (((0, 0, 2), (0, 1, 2), (1, 0, 2), (1, 1, 2)), (0, 0, 0, 0))]
 ''',
+    "kin": '''
+>>> from streetpapers.kin import asked, kin_count
+>>> table = (((1, 1, 0), (0, 3, 0)),)
+>>> [asked(table, (), (0, 0, 0, 0), 4), asked(table, (), (0, 0, 0, 0), 5), kin_count(table, (), (0, 0, 0, 0), 4)]
+[((0, 0),), ((0, 0), (0, 1)), 9]
+''',
+    "rings": '''
+>>> from streetpapers.rings import ring_life, ring_walk
+>>> table = (((1, 1, 0), (0, 3, 0)),)
+>>> [ring_walk(table, (), (0, 0, 0, 0), 2, 2, 3), ring_life(((None, (0, 0, 0)),), ((0, 0, 1),), (0, 0, 1, 0), 3, 3)]
+[(((0, 0, 1), (1, 0, 1), (1, 1, 1)), (0, 1, 3, 0), 3), (1, 0)]
+''',
+    "teams": '''
+>>> from streetpapers.teams import never_cross, team_walk
+>>> table = (((0, 0, 0), (0, 0, 0)),)
+>>> walkers = ((0, 0, 1, 0), (5, 5, 0, 0))
+>>> papers = (("street", 0, 1), ("street", 0, 1))
+>>> [team_walk(table, (), walkers, 3)[1], never_cross(table, (), walkers, papers)]
+[((3, 0, 1, 0), (5, 2, 0, 0)), False]
+''',
+    "census": '''
+>>> from streetpapers.census import census, count_never_bounded
+>>> [count_never_bounded(3), census(2, 200, 20)[0], census(2, 200, 20)[1]]
+[6, ('1r0 0r0', ('round', 0, 8)), ('1r0 0l0', None)]
+''',
+    "notes": '''
+>>> from streetpapers.notes import read_paper, read_walker, write_paper, write_walker
+>>> [write_paper(("street", 39, 18)), read_paper("stops 5"), write_walker((0, -2, 3, 1)), read_walker("0 -2 3 1")]
+['street 39 18', ('stops', 5), '0 -2 3 1', (0, -2, 3, 1)]
+''',
+    "trails": '''
+>>> from streetpapers.trails import Trail, read_trail
+>>> table = (((1, 1, 0), (0, 3, 0)),)
+>>> trail = Trail(table, (), (0, 0, 0, 0))
+>>> trail.go_on(5)
+>>> [trail.visits((0, 0)), trail.floor_at(1), trail.write(), read_trail(table, trail.write()).walker_at(5)]
+[(0, 4), ((0, 0, 1),), '5 0 0 0 0 0 0 ', (-1, 0, 3, 0)]
+''',
+    "sessions": '''
+>>> from streetpapers.sessions import Session
+>>> session = Session((((1, 1, 0), (2, 1, 0), (0, 3, 0)),))
+>>> paper = session.know(500, 50)
+>>> session.go(39 + 18 * 10 ** 30)
+>>> [paper[0], paper[2], session.walker()[0] - session.walker()[1], session.steps() == 39 + 18 * 10 ** 30]
+['street', 18, -3, True]
+''',
+    "desk": '''
+>>> from streetpapers.desk import run
+>>> run("1r0 0l0", ("go 4", "walker", "painted", "colour 0 0", "undo", "steps", "go"))
+('done', '0 0 0 0', '4', '1', 'done', '0', 'refused')
+''',
 }
 
 

@@ -21,6 +21,24 @@ INTERFACE = {
                "colour_at(table, floor, walker, paper, step, place)", "move_of(table, floor, walker, paper)"],
     "finders": ["find_paper(table, floor, walker, steps, most)", "soonest(table, floor, walker, paper)"],
     "corners": ["colour_rounds(table)", "never_bounded(table)", "bound_stand(table)"],
+    "kin": ["asked(table, floor, walker, many)", "walks_alike(table, floor, walker, many, other)",
+            "kin_count(table, floor, walker, many)"],
+    "rings": ["ring_walk(table, floor, walker, wide, high, many)", "ring_life(table, floor, walker, wide, high)"],
+    "teams": ["team_walk(table, floor, walkers, beats)", "never_cross(table, floor, walkers, papers)",
+              "team_at(table, floor, walkers, papers, beat)", "team_painted_at(table, floor, walkers, papers, beat)",
+              "team_colour_at(table, floor, walkers, papers, beat, place)"],
+    "census": ["census(colours, steps, most)", "count_never_bounded(colours)"],
+    "notes": ["write_paper(paper)", "write_walker(walker)", "read_paper(text)", "read_walker(text)"],
+    "trails": ["Trail(table, floor, walker)", "read_trail(table, text)"],
+    "sessions": ["Session(table)"],
+    "desk": ["Desk(table)", "run(text, lines)"],
+}
+METHODS_OF = {
+    "trails.Trail": ["go_on(many)", "length()", "walker_at(step)", "floor_at(step)", "back_to(step)", "visits(place)",
+                     "trodden()", "write()"],
+    "sessions.Session": ["walker()", "colour(place)", "painted()", "steps()", "floor()", "put(place, colour)",
+                         "lay(floor)", "stand(walker)", "know(steps, most)", "go(many)", "undo()", "redo()"],
+    "desk.Desk": ["ask(line)"],
 }
 
 BUILTINS = set("""len range enumerate zip min max sum abs sorted reversed int str bool list tuple dict set isinstance ord
@@ -166,6 +184,24 @@ class InterfaceTest(unittest.TestCase):
                 function = getattr(module, told.split("(")[0])
                 self.assertEqual(function.__module__, module.__name__)
                 self.assertEqual(function.__name__ + str(inspect.signature(function)), told)
+
+    def test_each_method_stands_in_its_class(self):
+        for name, methods in METHODS_OF.items():
+            module, holder = name.split(".")
+            holder = getattr(importlib.import_module(f"streetpapers.{module}"), holder)
+            for told in methods:
+                method = vars(holder)[told.split("(")[0]]
+                shown = method.__name__ + str(inspect.signature(method))
+                self.assertEqual(shown.replace("(self, ", "(").replace("(self)", "()"), told)
+
+    def test_no_class_has_a_method_and_an_attribute_of_one_name(self):
+        for path, tree in trees():
+            for holder in [node for node in ast.walk(tree) if isinstance(node, ast.ClassDef)]:
+                methods = [node.name for node in holder.body if isinstance(node, ast.FunctionDef)]
+                self.assertEqual(len(methods), len(set(methods)))
+                for node in ast.walk(holder):
+                    if isinstance(node, ast.Attribute) and isinstance(node.ctx, ast.Store):
+                        self.assertNotIn(node.attr, methods, (path, holder.name))
 
 
 if __name__ == "__main__":
