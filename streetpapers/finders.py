@@ -22,7 +22,7 @@ def found_paper(table, floor, walker, steps, most):
     if stroll.has_stopped():
         return ("stops", len(told))
     for paper in _likely_papers(told, most):
-        if Course(table, floor, walker, paper).holds():
+        if Course(Stroll(table, floor, walker), paper).holds():
             return paper
     return None
 

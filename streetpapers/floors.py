@@ -9,6 +9,8 @@ LONGEST_SIDE = 9999
 MOST_ROWS = 10000
 MOST_FIGURES = 4
 SIGNS = ".abcde"
+# What lies under a floor's painted squares, as the rows that come again and again.
+BLANK = ((0,),)
 
 
 def moved(floor, move):
@@ -31,11 +33,7 @@ def turned(floor, quarters):
 def box(floor):
     """Return (least x, least y, greatest x, greatest y) of the painted squares, None for a blank floor."""
     check_floor(floor, MOST_COLOURS)
-    if floor == ():
-        return None
-    xs = [x for x, _, _ in floor]
-    ys = [y for _, y, _ in floor]
-    return (min(xs), min(ys), max(xs), max(ys))
+    return box_of([square[:2] for square in floor])
 
 
 def write_floor(floor):
@@ -95,6 +93,22 @@ def painted_places(floor):
 def floor_of(painted):
     """Return the floor that has just these painted squares, a dict of colours by places."""
     return tuple(sorted([(x, y, painted[(x, y)]) for x, y in painted]))
+
+
+def box_of(places):
+    """Return (least x, least y, greatest x, greatest y) of some places, None for none."""
+    if not places:
+        return None
+    xs = [x for x, _ in places]
+    ys = [y for _, y in places]
+    return (min(xs), min(ys), max(xs), max(ys))
+
+
+def ground_colour(ground, place):
+    """Return the colour that the rows of a ground have at a place."""
+    x, y = place
+    row = ground[y % len(ground)]
+    return row[x % len(row)]
 
 
 def paint_square(painted, place, colour):

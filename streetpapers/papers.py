@@ -1,8 +1,10 @@
 """Papers: how a walk goes on for ever, judged for all time, and what they tell of any step."""
 
+from math import lcm
+
 from streetpapers.checks import FAR, check_number, check_place, is_whole
 from streetpapers.errors import BadPaper, TooMany
-from streetpapers.floors import MOST_SQUARES, painted_places
+from streetpapers.floors import MOST_SQUARES, ground_colour
 from streetpapers.walks import MOST_STEPS, Stroll, check_stand
 
 LONGEST_PERIOD = 2000
@@ -11,7 +13,7 @@ LONGEST_PERIOD = 2000
 def shows_paper(table, floor, walker, value):
     """Tell whether a value is a paper that is right."""
     check_stand(table, floor, walker)
-    return is_paper(value) and Course(table, floor, walker, value).holds()
+    return is_paper(value) and Course(Stroll(table, floor, walker), value).holds()
 
 
 def walker_at(table, floor, walker, paper, step):
@@ -65,7 +67,7 @@ def judged_course(table, floor, walker, paper):
     if not is_paper(paper):
         raise BadPaper("the value is no paper")
     try:
-        course = Course(table, floor, walker, paper)
+        course = Course(Stroll(table, floor, walker), paper)
     except TooMany:
         return None
     if not course.holds():
@@ -79,17 +81,17 @@ class Course:
     The round of a paper that tells a stop has no steps.
     """
 
-    def __init__(self, table, floor, walker, paper):
+    def __init__(self, stroll, paper):
         self.kind = paper[0]
         self.first = paper[1]
         self.period = paper[2] if len(paper) == 3 else 0
-        self.floor = floor
-        self.stroll = Stroll(table, floor, walker)
-        lead = self.stroll.go(self.first)
-        self.start = self.stroll.walker
-        self.ahead = {place: self.stroll.painted[place] for place in self.stroll.painted}
-        self.loop = self.stroll.go(self.period)
-        self.end = self.stroll.walker
+        self.stroll = stroll
+        self.at_first = _copied(stroll.painted)
+        lead = stroll.go(self.first)
+        self.start = stroll.walker
+        self.ahead = _copied(stroll.painted)
+        self.loop = stroll.go(self.period)
+        self.end = stroll.walker
         self.steps = lead + self.loop
         self.move = (self.end[0] - self.start[0], self.end[1] - self.start[1])
 
@@ -103,7 +105,7 @@ class Course:
             return self.end == self.start and self.stroll.painted == self.ahead
         if self.move == (0, 0) or self.end[2:] != self.start[2:]:
             return False
-        return _repeats_for_ever(self.ahead, self.loop, self.move)
+        return _repeats_for_ever(self.ahead, self.loop, self.move, self.stroll.ground)
 
     def lasts(self, step):
         """Tell whether there are so many steps."""
@@ -128,17 +130,20 @@ class Course:
         Each round reads and paints the same colours, so that each brings as many painted squares more.
         """
         near, rounds = self.near(step)
-        return len(self.floor) + _growth(self.steps[:near]) + rounds * _growth(self.loop)
+        return len(self.at_first) + _growth(self.steps[:near]) + rounds * _growth(self.loop)
 
     def colour_behind(self, step, place):
         """Return the colour of a place behind so many steps."""
         if self.kind == "street" and step >= self.first:
             return self._street_colour(step, place)
-        near, _ = self.near(step)
-        colours = painted_places(self.floor)
+        return self.painted_near(self.near(step)[0]).get(place, 0)
+
+    def painted_near(self, near):
+        """Return the colours of the painted squares, by their places, behind so many of the steps near by."""
+        colours = _copied(self.at_first)
         for walker, _, paint in self.steps[:near]:
             colours[walker[:2]] = paint
-        return colours.get(place, 0)
+        return {place: colours[place] for place in colours if colours[place] > 0}
 
     def _street_colour(self, step, place):
         near, rounds = self.near(step)
@@ -159,13 +164,17 @@ def lane_of(place, move):
     return ((place[0] - along * move[0], place[1] - along * move[1]), along)
 
 
+def _copied(painted):
+    return {place: painted[place] for place in painted}
+
+
 def _growth(steps):
     """Return how many more squares are painted behind some steps than ahead of them."""
     painted = len([paint for _, _, paint in steps if paint > 0])
     return painted - len([colour for _, colour, _ in steps if colour > 0])
 
 
-def _repeats_for_ever(painted, loop, move):
+def _repeats_for_ever(painted, loop, move, ground):
     """Tell whether a walk that did one round, from these painted squares on, does such rounds for ever."""
     lanes = _lane_visits(loop, move)
     colours = {lane: {} for lane in lanes}
@@ -173,7 +182,7 @@ def _repeats_for_ever(painted, loop, move):
         lane, along = lane_of(place, move)
         if lane in colours:
             colours[lane][along] = painted[place]
-    return all([_lane_repeats(lanes[lane], colours[lane]) for lane in lanes])
+    return all([_lane_repeats(lanes[lane], colours[lane], _lane_ground(lane, move, ground)) for lane in lanes])
 
 
 def _lane_visits(loop, move):
@@ -187,18 +196,28 @@ def _lane_visits(loop, move):
     return lanes
 
 
-def _lane_repeats(visits, colours):
+def _lane_ground(lane, move, ground):
+    """Return the colours of the ground along a lane, as many as there are until they come again."""
+    many = lcm(len(ground), len(ground[0]))
+    return [ground_colour(ground, (lane[0] + along * move[0], lane[1] + along * move[1])) for along in range(many)]
+
+
+def _lane_repeats(visits, colours, own):
     """Tell whether each later round comes upon the colours on this lane that the first one read.
 
     What a round reads first at a place is, moved on by one round after the other, at first what the squares
-    ahead have been all along, and from the next place on that the round visits too what is painted last there.
+    ahead have been all along (their own colour, unless they were painted), and from the next place on that the
+    round visits too what is painted last there.
     """
     places = sorted(visits)
     for here, there in zip(places, places[1:]):
         read = visits[here][0]
         if visits[there][1] != read:
             return False
-        if any([colours.get(between, 0) != read for between in range(here + 1, there)]):
+        ahead = [colours.get(between, own[between % len(own)]) for between in range(here + 1, there)]
+        if any([colour != read for colour in ahead]):
             return False
     last = places[-1]
-    return visits[last][0] == 0 and max(colours, default=last) <= last
+    read = visits[last][0]
+    beyond = [colours[along] for along in colours if along > last]
+    return all([colour == read for colour in own + beyond])

@@ -7,7 +7,7 @@ from streetpapers.floors import check_floor, floor_of, paint_square, painted_pla
 from streetpapers.papers import Course
 from streetpapers.records import Record
 from streetpapers.tables import check_table
-from streetpapers.walks import MOST_STEPS, check_walker
+from streetpapers.walks import MOST_STEPS, Stroll, check_walker
 
 
 class Session:
@@ -119,5 +119,5 @@ class Session:
         if (floor, walker) != self.view[:2]:
             self.record = Record(self.table, floor, walker)
         if (floor, walker, paper) != self.view[:3]:
-            self.course = None if paper is None else Course(self.table, floor, walker, paper)
+            self.course = None if paper is None else Course(Stroll(self.table, floor, walker), paper)
         self.view = view

@@ -2,7 +2,7 @@
 
 from streetpapers.checks import check_number, is_place, is_whole
 from streetpapers.errors import BadWalker, Stopped
-from streetpapers.floors import check_floor, floor_of, paint_square, painted_places
+from streetpapers.floors import BLANK, check_floor, floor_of, paint_square, painted_places
 from streetpapers.tables import check_table
 
 MOST_STEPS = 100000
@@ -53,12 +53,21 @@ class Stroll:
 
     def __init__(self, table, floor, walker):
         self.table = table
+        self.ground = BLANK
         self.painted = painted_places(floor)
         self.walker = walker
 
+    def colour_of(self, place):
+        """Return the colour that a place has now."""
+        return self.painted.get(place, 0)
+
+    def paint(self, place, colour):
+        """Give a place a colour, or raise TooMany."""
+        paint_square(self.painted, place, colour)
+
     def reading(self):
         """Return the state and the colour by which the walker goes on, or has stopped."""
-        return (self.walker[3], self.painted.get(self.walker[:2], 0))
+        return (self.walker[3], self.colour_of(self.walker[:2]))
 
     def has_stopped(self):
         """Tell whether no step is left to do."""
@@ -73,11 +82,11 @@ class Stroll:
         told = []
         for _ in range(many):
             place = self.walker[:2]
-            colour = self.painted.get(place, 0)
+            colour = self.colour_of(place)
             entry = self.table[self.walker[3]][colour]
             if entry is None:
                 break
-            paint_square(self.painted, place, entry[0])
+            self.paint(place, entry[0])
             told.append((self.walker, colour, entry[0]))
             self.walker = _walker_behind(self.walker, entry)
         return told

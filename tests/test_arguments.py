@@ -4,8 +4,8 @@ import copy
 import unittest
 
 from plain import ANT, FAR, PAINTER, STRAIGHT
-from streetpapers import (backs, census, corners, desk, errors, finders, floors, kin, notes, papers, rings, sessions,
-                          tables, teams, trails, walks)
+from streetpapers import (backs, census, corners, desk, errors, finders, firsts, floors, grounds, kin, likes, mirrors,
+                          notes, papers, rings, sessions, tables, teams, trails, walks)
 
 JUNK = (
     0, 1, -1, 3, 4, 5, 2000, 2001, 30000, 30001, 100000, 100001, FAR, FAR + 1, -FAR - 1, 10 ** 5000, -10 ** 5000,
@@ -25,6 +25,7 @@ JUNK = (
     ((0, 0, 0, 0),), ((0, 0, 0, 0),) * 4, ((0, 0, 0, 0),) * 5, [(0, 0, 0, 0)], ((0, 0, 0, 0), (0, 0, 0, 1)),
     ((0, 0, 0, 0), None), ((0, 0, True, 0),), (("street", 0, 1),), (("street", 0, 1),) * 2, [("street", 0, 1)],
     (("street", 0, 1), ("round", 0, 1)), (("stops", 0),), ("steps",) * 1001, ("steps",), (0, 0, 0, 9), (0, 0, 0, 10),
+    ((0,),), ((0,) * 6,) * 6, ((0,),) * 7, ((0,) * 7,), ((0, 1), (1,)), ((2,),), ((True,),), ([0],), [(0,)], ((),),
 )
 
 
@@ -81,6 +82,12 @@ def of_any_table(value):
                              and whole(value[3], 0, 9))
 
 
+def ground(value):
+    return (type(value) is tuple and 1 <= len(value) <= 6 and all(type(row) is tuple for row in value)
+            and len({len(row) for row in value}) == 1 and 1 <= len(value[0]) <= 6
+            and all(whole(colour, 0, 1) for row in value for colour in row))
+
+
 def team(value):
     return type(value) is tuple and 1 <= len(value) <= 4 and all(walker(one) for one in value)
 
@@ -116,6 +123,9 @@ TEAM_PAPERS = [*TEAM, ((("street", 0, 1),), (papers_of_one, errors.BadPaper))]
 SIDE = (5, number(1, 40))
 COLOURS = (2, number(2, 4))
 STEP = (FAR, number(0, FAR))
+ANYWHERE = ((0, 0), PLACE)
+GROUND_STAND = [STAND[0], (((0, 1), (0, 0)), (ground, errors.BadGround)), *STAND[1:]]
+GROUND_STREET = [*GROUND_STAND, MANY, (5, number(1, 2000))]
 
 # Each function with, for each argument, a good value, what else is allowed for it, and its error.
 FUNCTIONS = [
@@ -133,7 +143,7 @@ FUNCTIONS = [
     (papers.shows_paper, [*STAND, (("street", 0, 1), (lambda value: True, None))]),
     (papers.walker_at, [*STREET, STEP]),
     (papers.painted_at, [*STREET, STEP]),
-    (papers.colour_at, [*STREET, STEP, ((0, 0), PLACE)]),
+    (papers.colour_at, [*STREET, STEP, ANYWHERE]),
     (papers.move_of, STREET),
     (finders.find_paper, [*STAND, (9, number(1, 30000)), (3, number(1, 2000))]),
     (finders.soonest, STREET),
@@ -149,7 +159,7 @@ FUNCTIONS = [
     (teams.never_cross, TEAM_PAPERS),
     (teams.team_at, [*TEAM_PAPERS, STEP]),
     (teams.team_painted_at, [*TEAM_PAPERS, STEP]),
-    (teams.team_colour_at, [*TEAM_PAPERS, STEP, ((0, 0), PLACE)]),
+    (teams.team_colour_at, [*TEAM_PAPERS, STEP, ANYWHERE]),
     (census.census, [COLOURS, (9, number(1, 4000)), (3, number(1, 200))]),
     (census.count_never_bounded, [COLOURS]),
     (notes.write_paper, [(("stops", 5), (any_paper, errors.BadPaper))]),
@@ -162,6 +172,18 @@ FUNCTIONS = [
     (desk.Desk, [(ANT, TABLE)]),
     (desk.run, [("1r0 0l0", TEXT), (("steps",), (lambda value: type(value) is tuple and len(value) <= 1000,
                                                   errors.NotText))]),
+    (firsts.first_stood, [*STREET, ANYWHERE]),
+    (firsts.times_stood, [*STREET, STEP, ANYWHERE]),
+    (firsts.painted_box, [*STREET, STEP]),
+    (likes.first_unlike, [*STREET, (((5, 5, 1),), FLOOR)]),
+    (likes.what_matters, [*STREET, ANYWHERE, ((3, 3), PLACE)]),
+    (grounds.ground_walk, [*GROUND_STAND, MANY]),
+    (grounds.shows_ground_street, GROUND_STREET),
+    (grounds.ground_walker_at, [*GROUND_STREET, STEP]),
+    (mirrors.mirrored_table, [(ANT, TABLE)]),
+    (mirrors.mirrored, [(((0, 0, 5),), ANY_FLOOR)]),
+    (mirrors.mirrored_walker, [(ANT, TABLE), ((0, 0, 0, 0), WALKER)]),
+    (mirrors.is_own_mirror, [(ANT, TABLE)]),
 ]
 
 

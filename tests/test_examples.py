@@ -96,6 +96,31 @@ EXAMPLES = {
 >>> run("1r0 0l0", ("go 4", "walker", "painted", "colour 0 0", "undo", "steps", "go"))
 ('done', '0 0 0 0', '4', '1', 'done', '0', 'refused')
 ''',
+    "firsts": '''
+>>> from streetpapers.firsts import first_stood, painted_box, times_stood
+>>> table, paper = (((0, 0, 0), (0, 1, 0)),), ("street", 3, 1)
+>>> stand = (((2, 0, 1),), (0, 0, 1, 0))
+>>> [first_stood(table, stand[0], stand[1], paper, (2, 10 ** 30)), times_stood(table, stand[0], stand[1], paper, 50, (1, 0)), painted_box(table, stand[0], stand[1], paper, 2)]
+[1000000000000000000000000000002, 1, (2, 0, 2, 0)]
+''',
+    "likes": '''
+>>> from streetpapers.likes import first_unlike, what_matters
+>>> table, paper = (((0, 0, 0), (0, 1, 0)),), ("street", 0, 1)
+>>> [first_unlike(table, (), (0, 0, 1, 0), paper, ((7, 0, 1),)), first_unlike(table, (), (0, 0, 1, 0), paper, ((7, 1, 1),)), what_matters(table, (), (0, 0, 1, 0), paper, (-1, 0), (1, 1))]
+[7, None, (((0, 0), 0), ((1, 0), 1))]
+''',
+    "grounds": '''
+>>> from streetpapers.grounds import ground_walk, ground_walker_at, shows_ground_street
+>>> table, ground = (((0, 1, 0), (1, 3, 0)),), ((0, 1), (1, 0))
+>>> [ground_walk(table, ground, (), (0, 0, 0, 0), 4), shows_ground_street(table, ground, (), (0, 0, 0, 0), 0, 2), ground_walker_at(table, ground, (), (0, 0, 0, 0), 0, 2, 10 ** 20)]
+[((), (2, -2, 0, 0), 4), True, (50000000000000000000, -50000000000000000000, 0, 0)]
+''',
+    "mirrors": '''
+>>> from streetpapers.mirrors import is_own_mirror, mirrored, mirrored_table, mirrored_walker
+>>> table = (((1, 1, 0), (0, 3, 0)),)
+>>> [mirrored_table(table), mirrored(((1, 0, 2),)), mirrored_walker(table, (3, 4, 1, 0)), is_own_mirror((((0, 2, 0), (1, 0, 0)),))]
+[(((1, 3, 0), (0, 1, 0)),), ((-1, 0, 2),), (-3, 4, 3, 0), True]
+''',
 }
 
 

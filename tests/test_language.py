@@ -32,6 +32,15 @@ INTERFACE = {
     "trails": ["Trail(table, floor, walker)", "read_trail(table, text)"],
     "sessions": ["Session(table)"],
     "desk": ["Desk(table)", "run(text, lines)"],
+    "firsts": ["first_stood(table, floor, walker, paper, place)",
+               "times_stood(table, floor, walker, paper, step, place)",
+               "painted_box(table, floor, walker, paper, step)"],
+    "likes": ["first_unlike(table, floor, walker, paper, other)",
+              "what_matters(table, floor, walker, paper, corner, end)"],
+    "grounds": ["ground_walk(table, ground, floor, walker, many)",
+                "shows_ground_street(table, ground, floor, walker, first, period)",
+                "ground_walker_at(table, ground, floor, walker, first, period, step)"],
+    "mirrors": ["mirrored_table(table)", "mirrored(floor)", "mirrored_walker(table, walker)", "is_own_mirror(table)"],
 }
 METHODS_OF = {
     "trails.Trail": ["go_on(many)", "length()", "walker_at(step)", "floor_at(step)", "back_to(step)", "visits(place)",
