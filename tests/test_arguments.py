@@ -4,8 +4,8 @@ import copy
 import unittest
 
 from plain import ANT, FAR, PAINTER, STRAIGHT
-from streetpapers import (backs, census, corners, desk, errors, finders, firsts, floors, grounds, kin, likes, mirrors,
-                          notes, papers, rings, sessions, tables, teams, trails, walks)
+from streetpapers import (backs, catalogue, census, corners, desk, errors, finders, firsts, floors, grounds, kin, likes,
+                          mirrors, notes, papers, planners, plans, rings, sessions, tables, tapes, teams, trails, walks)
 
 JUNK = (
     0, 1, -1, 3, 4, 5, 2000, 2001, 30000, 30001, 100000, 100001, FAR, FAR + 1, -FAR - 1, 10 ** 5000, -10 ** 5000,
@@ -26,6 +26,11 @@ JUNK = (
     ((0, 0, 0, 0), None), ((0, 0, True, 0),), (("street", 0, 1),), (("street", 0, 1),) * 2, [("street", 0, 1)],
     (("street", 0, 1), ("round", 0, 1)), (("stops", 0),), ("steps",) * 1001, ("steps",), (0, 0, 0, 9), (0, 0, 0, 10),
     ((0,),), ((0,) * 6,) * 6, ((0,),) * 7, ((0,) * 7,), ((0, 1), (1,)), ((2,),), ((True,),), ([0],), [(0,)], ((),),
+    (((1, 1, 0), None),), (((1, -1, 0), None),), (((1, 0, 0), None),), (((2, 1, 0), None),), (((1, 1, 1), None),),
+    (((1, True, 0), None),), [((1, 1, 0), None)], ((None, None),) * 5, ((None, None),) * 6, (0,) * 400, (0,) * 401,
+    (0, 2), (0, -1), [0], (2, ()), (2, (("step",),)), (2, [("step",)]), (1, ()), (7, ()), (True, ()), (2, (("steps",),)),
+    (2, (("paint", 2),)), (2, (("turn", 0),)), (2, (("turn", True),)), (2, ("step",)), (2, (("forever", ()),)), (2,),
+    (2, (("if", 0, ()),)), (2, (("repeat", 9, ()),)), (2, (("while", 1, (("step",),)),)), (2, (("step",),) * 61), 6, 7,
 )
 
 
@@ -88,6 +93,26 @@ def ground(value):
             and all(whole(colour, 0, 1) for row in value for colour in row))
 
 
+def machine(value):
+    if type(value) is not tuple or not 1 <= len(value) <= 5 or any(type(rules) is not tuple for rules in value):
+        return False
+    if len({len(rules) for rules in value}) != 1 or not 2 <= len(value[0]) <= 6:
+        return False
+    return all(rule is None or (type(rule) is tuple and len(rule) == 3 and whole(rule[0], 0, len(value[0]) - 1)
+                                and whole(rule[1], -1, 1) and rule[1] != 0 and whole(rule[2], 0, len(value) - 1))
+               for rules in value for rule in rules)
+
+
+def tape(value):
+    return type(value) is tuple and len(value) <= 400 and all(whole(sign, 0, 1) for sign in value)
+
+
+def plan(value):
+    # Of the values below, only these are plans.
+    good = [(2, ()), (2, (("step",),)), (2, (("forever", ()),)), (2, (("while", 1, (("step",),)),))]
+    return type(value) is tuple and any(value == one and type(value[0]) is int for one in good)
+
+
 def team(value):
     return type(value) is tuple and 1 <= len(value) <= 4 and all(walker(one) for one in value)
 
@@ -126,6 +151,10 @@ STEP = (FAR, number(0, FAR))
 ANYWHERE = ((0, 0), PLACE)
 GROUND_STAND = [STAND[0], (((0, 1), (0, 0)), (ground, errors.BadGround)), *STAND[1:]]
 GROUND_STREET = [*GROUND_STAND, MANY, (5, number(1, 2000))]
+MACHINE = ((((1, 1, 0), None),), (machine, errors.BadMachine))
+TAPE_STAND = [MACHINE, ((0, 1), (tape, errors.BadTape)), (FAR, number(-FAR, FAR)), (0, number(0, 0))]
+PLAN = ((2, (("step",),)), (plan, errors.BadPlan))
+PLACED = [(value, (lambda value: whole(value, -FAR, FAR), errors.BadWalker)) for value in (FAR, -FAR)]
 
 # Each function with, for each argument, a good value, what else is allowed for it, and its error.
 FUNCTIONS = [
@@ -184,6 +213,15 @@ FUNCTIONS = [
     (mirrors.mirrored, [(((0, 0, 5),), ANY_FLOOR)]),
     (mirrors.mirrored_walker, [(ANT, TABLE), ((0, 0, 0, 0), WALKER)]),
     (mirrors.is_own_mirror, [(ANT, TABLE)]),
+    (tapes.tape_run, [*TAPE_STAND, MANY]),
+    (tapes.tape_by_walker, [*TAPE_STAND, MANY]),
+    (tapes.tape_stand, TAPE_STAND),
+    (tapes.walker_table, [MACHINE]),
+    (catalogue.catalogue, [(ANT, TABLE), (2, number(1, 6)), (3, number(1, 6)), (9, number(1, 4000)), (3, number(1, 200))]),
+    (plans.play_plan, [PLAN, ((), FLOOR), *PLACED, (3, (lambda value: whole(value, 0, 3), errors.BadWalker)), MANY]),
+    (plans.table_of, [PLAN]),
+    (plans.write_plan, [PLAN]),
+    (planners.read_plan, [("colours 2", TEXT)]),
 ]
 
 

@@ -3,6 +3,9 @@
 import doctest
 import unittest
 
+from streetpapers.errors import BadLine
+from streetpapers.planners import read_plan
+
 EXAMPLES = {
     "tables": '''
 >>> from streetpapers.tables import read_table, write_table
@@ -121,6 +124,28 @@ EXAMPLES = {
 >>> [mirrored_table(table), mirrored(((1, 0, 2),)), mirrored_walker(table, (3, 4, 1, 0)), is_own_mirror((((0, 2, 0), (1, 0, 0)),))]
 [(((1, 3, 0), (0, 1, 0)),), ((-1, 0, 2),), (-3, 4, 3, 0), True]
 ''',
+    "tapes": '''
+>>> from streetpapers.tapes import tape_by_walker, tape_run, walker_table
+>>> machine = (((1, 1, 1), (1, -1, 1)), ((1, -1, 0), None))
+>>> [tape_run(machine, (), 0, 0, 100), tape_by_walker(machine, (), 0, 0, 100), walker_table((((1, -1, 0), None),))]
+[(((-2, 1), (-1, 1), (0, 1), (1, 1)), -1, 1, 5), (((-2, 1), (-1, 1), (0, 1), (1, 1)), -1, 1, 5), (((1, 2, 1), None), ((1, 0, 1), None))]
+''',
+    "catalogue": '''
+>>> from streetpapers.catalogue import catalogue
+>>> [catalogue((((0, 0, 0), None),), 1, 1, 40, 3), sum([many for kind, many in catalogue((((1, 1, 0), (0, 3, 0)),), 2, 2, 60, 5)])]
+[((('stops',), 1), (('street', 1, (1, 0)), 1)), 16]
+''',
+    "plans": '''
+>>> from streetpapers.plans import play_plan, table_of, write_plan
+>>> plan = (2, (("forever", (("if", 0, (("paint", 1), ("turn", 1)), (("paint", 0), ("turn", 3))), ("step",))),))
+>>> [table_of(plan), play_plan(plan, (), 0, 0, 0, 5), write_plan(plan)]
+[(((1, 1, 0), (0, 3, 0)),), (((0, 1, 1), (1, 0, 1), (1, 1, 1)), (-1, 0, 3), 5), 'colours 2\\nforever\\nif 0\\npaint 1\\nturn right\\nelse\\npaint 0\\nturn left\\nend\\nstep\\nend']
+''',
+    "planners": '''
+>>> from streetpapers.planners import read_plan
+>>> read_plan("colours 3\\nrepeat 2\\nstep\\nend\\nwhile 0\\nstep\\nend")
+(3, (('repeat', 2, (('step',),)), ('while', 0, (('step',),))))
+''',
 }
 
 
@@ -132,6 +157,11 @@ class ExamplesTest(unittest.TestCase):
                 told = []
                 result = doctest.DocTestRunner(verbose=False).run(example, out=told.append)
                 self.assertEqual((result.failed, result.attempted > 1), (0, True), "".join(told))
+
+    def test_the_example_of_an_error(self):
+        with self.assertRaises(BadLine) as caught:
+            read_plan("colours 2\npaint 2")
+        self.assertEqual((caught.exception.line, caught.exception.word), (2, 2))
 
 
 if __name__ == "__main__":

@@ -40,6 +40,11 @@ INTERFACE = {
     "grounds": ["ground_walk(table, ground, floor, walker, many)",
                 "shows_ground_street(table, ground, floor, walker, first, period)",
                 "ground_walker_at(table, ground, floor, walker, first, period, step)"],
+    "tapes": ["tape_run(machine, tape, head, state, many)", "tape_by_walker(machine, tape, head, state, many)",
+              "walker_table(machine)", "tape_stand(machine, tape, head, state)"],
+    "catalogue": ["catalogue(table, wide, high, steps, most)"],
+    "plans": ["play_plan(plan, floor, x, y, heading, many)", "table_of(plan)", "write_plan(plan)"],
+    "planners": ["read_plan(text)"],
     "mirrors": ["mirrored_table(table)", "mirrored(floor)", "mirrored_walker(table, walker)", "is_own_mirror(table)"],
 }
 METHODS_OF = {
