@@ -14,7 +14,7 @@ def ground_walk(table, ground, floor, walker, many):
     """Return the squares unlike the ground, the walker, and how many steps were done, behind many or up to a stop."""
     _check_stand(table, ground, floor, walker)
     check_number(many, 0, MOST_STEPS)
-    stroll = GroundStroll(table, ground, floor, walker)
+    stroll = GroundStroll(table, floor, walker, ground)
     done = len(stroll.go(many))
     painted = stroll.painted
     unlike = [place for place in sorted(painted) if painted[place] != ground_colour(ground, place)]
@@ -38,10 +38,6 @@ def ground_walker_at(table, ground, floor, walker, first, period, step):
 class GroundStroll(Stroll):
     """A walk under way on a ground. Each square that was painted is kept, also one that was painted blank."""
 
-    def __init__(self, table, ground, floor, walker):
-        Stroll.__init__(self, table, floor, walker)
-        self.ground = ground
-
     def colour_of(self, place):
         """Return the colour that a place has now."""
         if place in self.painted:
@@ -56,7 +52,7 @@ class GroundStroll(Stroll):
 
 
 def _street(table, ground, floor, walker, first, period):
-    return Course(GroundStroll(table, ground, floor, walker), ("street", first, period))
+    return Course(GroundStroll(table, floor, walker, ground), ("street", first, period))
 
 
 def _check_street(table, ground, floor, walker, first, period):

@@ -49,11 +49,11 @@ def is_walker(value, states):
 
 
 class Stroll:
-    """A walk under way: the colours of the painted squares by their places, and the walker."""
+    """A walk under way: the colours of the painted squares by their places, the walker, and the ground below."""
 
-    def __init__(self, table, floor, walker):
+    def __init__(self, table, floor, walker, ground=BLANK):
         self.table = table
-        self.ground = BLANK
+        self.ground = ground
         self.painted = painted_places(floor)
         self.walker = walker
 

@@ -225,6 +225,35 @@ FUNCTIONS = [
 ]
 
 
+def straight_session():
+    session = sessions.Session(STRAIGHT)
+    session.go(5)
+    return session
+
+
+def straight_trail():
+    trail = trails.Trail(STRAIGHT, (), (0, 0, 1, 0))
+    trail.go_on(5)
+    return trail
+
+
+# Each method with what makes its object; what else is allowed, and the error, is told as for functions.
+METHODS = [
+    (straight_trail, "go_on", [(3, number(0, 20000))]),
+    (straight_trail, "walker_at", [(5, number(0, 5))]),
+    (straight_trail, "floor_at", [(0, number(0, 5))]),
+    (straight_trail, "back_to", [(1, number(0, 5))]),
+    (straight_trail, "visits", [ANYWHERE]),
+    (straight_session, "colour", [ANYWHERE]),
+    (straight_session, "put", [ANYWHERE, (1, number(0, 1))]),
+    (straight_session, "lay", [(((0, 0, 1),), FLOOR)]),
+    (straight_session, "stand", [((0, 0, 1, 0), WALKER)]),
+    (straight_session, "know", [(9, number(1, 30000)), (3, number(1, 2000))]),
+    (straight_session, "go", [(3, number(0, FAR))]),
+    (lambda: desk.Desk(STRAIGHT), "ask", [("steps", TEXT)]),
+]
+
+
 class ArgumentsTest(unittest.TestCase):
     def refused(self, function, values, error):
         """Whether the call raises just this error and leaves its arguments alone."""
@@ -258,6 +287,26 @@ class ArgumentsTest(unittest.TestCase):
                         for later in (None, True, [], "x", -1):
                             values = [good for good, _ in wanted[:at]] + [value] + [later] * (len(wanted) - at - 1)
                             self.refused(function, values, error)
+
+    def test_methods(self):
+        for make, name, wanted in METHODS:
+            values = [good for good, _ in wanted]
+            getattr(make(), name)(*values)
+            for at, (_, (allowed, error)) in enumerate(wanted):
+                held = make()
+                before = self.told_of(held)
+                for value in JUNK:
+                    if not allowed(value):
+                        for later in (values[at + 1:], [None] * (len(wanted) - at - 1)):
+                            self.refused(getattr(held, name), [*values[:at], value, *later], error)
+                # What raises an error changes nothing.
+                self.assertEqual(self.told_of(held), before)
+
+    def told_of(self, held):
+        if isinstance(held, trails.Trail):
+            return (held.write(), held.length(), held.trodden())
+        session = held.session if isinstance(held, desk.Desk) else held
+        return (session.walker(), session.painted(), session.steps(), session.floor())
 
     def test_any_value_may_be_asked_for_as_a_paper(self):
         for value in JUNK:

@@ -100,6 +100,7 @@ class CatalogueTest(unittest.TestCase):
                 for later in (9, None):
                     with self.assertRaises(BadNumber):
                         catalogue(*good[:at], value, *((later,) * (4 - at) if later is None else good[at + 1:]))
+        catalogue(ANT, 1, 6, 4000, 200)
         # Both are behind the numbers.
         for steps, most in [(0, 3), (9, 0), (4001, 3), (9, 201)]:
             with self.assertRaises(BadNumber):

@@ -17,6 +17,10 @@ REVISIT = (((1, 2, 1), (1, 2, 1)), ((1, 0, 2), (1, 0, 2)), ((1, 2, 0), (1, 2, 0)
 # It paints four squares and makes the third and the fourth of them blank again, on its way back and on.
 LOOPS = (((1, 0, 1), (1, 0, 1)), ((1, 0, 2), (1, 0, 2)), ((1, 2, 3), (1, 2, 3)), ((0, 2, 4), (0, 2, 4)),
          ((0, 0, 0), (0, 0, 0)))
+# Nine steps up, right three times, down twice, left twice and up, whatever it reads: of the row on which a round
+# begins it comes by two squares, with two between. It blanks the one, and paints the other.
+LADDER = tuple(((0 if state != 5 else 1, turn, (state + 1) % 9), (1 if state != 0 else 0, turn, (state + 1) % 9))
+               for state, turn in enumerate([0, 1, 0, 0, 1, 0, 1, 0, 1]))
 HEADINGS = [(0, 0, -1), (1, 1, 0), (2, 0, 1), (3, -1, 0)]
 
 
@@ -238,6 +242,18 @@ class PaintedBoxTest(unittest.TestCase):
                 self.box(edges, BLANKER, floor, (0, 0, 1, 0), paper, step)
             self.box(None, BLANKER, floor[:3], (0, 0, 1, 0), paper, FAR)
             self.box((0, 0, 1, 0), BLANKER, floor[:3], (2, 0, 1, 0), paper, FAR)
+
+    def test_painted_squares_that_later_rounds_take_away(self):
+        # Ahead of it two more squares of its row are painted: the second and the third round make them blank.
+        floor = ((0, 0, 1), (1, 0, 1), (2, 0, 1))
+        for squares in (floor, (*floor, (2, 5, 1))):
+            for step, (held, _, _) in enumerate(plain_stands(LADDER, squares, (0, 0, 0, 0), 120)):
+                for paper in [("street", 0, 9), ("street", 5, 9), ("street", 9, 18)]:
+                    self.box(box(held), LADDER, squares, (0, 0, 0, 0), paper, step)
+        for rounds in (5, 10 ** 9, 10 ** 58):
+            for more, left in enumerate([0, 1, 1, 1, 1, 1, 1, 1, 1]):
+                edges = (rounds + left, 0, rounds + 2 + (more > 5), 0)
+                self.box(edges, LADDER, floor, (0, 0, 0, 0), ("street", 0, 9), 9 * rounds + more)
 
     def test_squares_painted_for_a_while(self):
         for first in (0, 1, 4):

@@ -167,6 +167,21 @@ class GroundStreetTest(unittest.TestCase):
             self.shows(period % 4 == 0, SAME, ground, (), (0, 1, 1, 0), 0, period)
             self.shows(period % 3 == 0, SAME, ground, (), (1, 0, 0, 0), 0, period)
 
+    def test_grounds_of_slanting_stripes(self):
+        # Down and right, down and right; or up and right.
+        down = (((0, 1, 1), (1, 1, 1)), ((0, 3, 0), (1, 3, 0)))
+        up = (((0, 3, 1), (1, 3, 1)), ((0, 1, 0), (1, 1, 0)))
+        for side in range(3, 7):
+            falling, rising = [tuple(tuple(int((x + sign * y) % side == 0) for x in range(side)) for y in range(side))
+                               for sign in (-1, 1)]
+            for period in range(1, 4 * side + 1):
+                for x in (0, 1, side - 1, side):
+                    along, across = period % 2 == 0, period % 2 == 0 and period % side == 0
+                    self.shows(along, down, falling, (), (x, 0, 1, 0), 0, period)
+                    self.shows(along, up, rising, (), (x, 0, 1, 0), 0, period)
+                    self.shows(across, down, rising, (), (x, 0, 1, 0), 0, period)
+                    self.shows(across, up, falling, (), (x, 0, 1, 0), 0, period)
+
     def test_a_ground_that_differs_only_at_a_far_row(self):
         # The walker goes aslant, right and down: it comes by the one other square behind 30 rounds at the latest.
         table = (((0, 1, 1), (1, 1, 1)), ((0, 3, 0), (1, 3, 0)))

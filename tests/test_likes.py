@@ -160,6 +160,8 @@ class WhatMattersTest(unittest.TestCase):
         self.matters((), *values, (FAR, -FAR), (-FAR, FAR))
         self.matters((), *values, (-FAR, FAR), (FAR, -FAR))
         self.matters((), *values, (FAR, FAR), (-FAR, -FAR))
+        self.matters((), *values, (-FAR, 1), (FAR, 0))
+        self.matters((), *values, (1, -FAR), (0, FAR))
         self.matters((), *values, (-1, 0), (-1, 0))
 
     def test_boxes_of_400_places_and_more(self):

@@ -166,6 +166,14 @@ class PlayTest(unittest.TestCase):
         self.plays(((), (0, -5, 0), 5), (2, (("repeat", 5, (STEP,)),)), (), 0, 0, 0, 100000)
         self.plays(((), (0, -4, 0), 4), (2, (("repeat", 5, (STEP,)),)), (), 0, 0, 0, 4)
 
+    def test_a_repeat_that_steps_in_a_later_time(self):
+        # The first time paints alone; each time that finds the square painted steps.
+        plan = (2, (("repeat", 4, (("if", 1, (STEP,), (("paint", 1),)),)),))
+        column = tuple((0, y, 1) for y in range(-9, 0))
+        self.plays(((*column, (0, 0, 1)), (0, -3, 0), 3), plan, column, 0, 0, 0, 9)
+        self.plays((((0, -1, 1), (0, 0, 1)), (0, -2, 0), 2), plan, (), 0, 0, 0, 9)
+        self.assertEqual(write_table(table_of(plan)), "1a1 1a2 / 1a3 1a4 / 1a4 1a1 / - - / - 1a3")
+
     def test_places_far_away(self):
         plan = (2, (("paint", 1), STEP, STEP))
         self.plays((((FAR, -FAR, 1),), (FAR + 2, -FAR, 1), 2), plan, (), FAR, -FAR, 1, 9)

@@ -172,7 +172,7 @@ class WrongArgumentsTest(unittest.TestCase):
 
     def test_values_that_are_nearly_machines(self):
         rule = (1, 1, 0)
-        for machine in [(), None, 0, "", [(rule, rule)], ([rule, rule],), ((rule,),), ((rule,) * 7,), ((rule, rule),) * 6,
+        for machine in [((None,),), ((None,),) * 5, (((0, 1, 0),),), (), None, 0, "", [(rule, rule)], ([rule, rule],), ((rule,),), ((rule,) * 7,), ((rule, rule),) * 6,
                         ((rule, rule), (rule, rule, rule)), ((rule, rule, rule), (rule, rule)), (((2, 1, 0), rule),),
                         (((1, 0, 0), rule),), (((1, 2, 0), rule),), (((1, -2, 0), rule),), (((1, 1, 1), rule),),
                         (((1, 1, -1), rule),), (((-1, 1, 0), rule),), (((True, 1, 0), rule),), (((1, True, 0), rule),),
