@@ -22,9 +22,9 @@ def read_plan(text):
 
 
 class Draft:
-    """A plan under way: its number of colours, how many parts have begun, and the parts that are open.
+    """A plan under way: its number of colours, how many parts have begun, and those that lack their end.
 
-    Of each open part are kept its word and number, and its blocks so far, as lists. The first one is the plan.
+    Of each of the latter are kept its word and number, and its blocks so far, as lists. The first one is the plan.
     """
 
     def __init__(self):
